@@ -1,0 +1,1 @@
+"""Trees of processes, frozen and thawed by plain calls."""
