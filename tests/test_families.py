@@ -204,6 +204,14 @@ class End(Family):
         self.calls(m, [(3, ("wait", 4), refused("no child")), (1, ("join", 4, 1), NONE)])
 
 
+    def test_what_an_ended_one_has_left(self):
+        m = self.machine((1, ("pipe",)), (1, ("fork", 2)), (2, ("adopt",)), (2, ("read", 0, 1)),
+                         (1, ("send", "stop", 2)), (1, ("send", "end", 2)))
+        ended = m.world.processes[2]
+        self.exact((ended.adopts, ended.stopped, ended.code, ended.call, ended.cells, ended.handles),
+                   (False, False, -1, None, [], {}))
+
+
 class Wait(Family):
     def test_no_child(self):
         m = self.machine((1, ("fork", 2)), (2, ("fork", 3)), (3, ("fork", 4)))

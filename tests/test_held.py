@@ -106,6 +106,20 @@ class Held(Case):
         self.calls(m, [(1, ("write", 1, "a"), told(1)), (2, ("read", 0, 1), told("a")), (2, ("close", 0), NONE),
                        (1, ("write", 1, "a"), refused("alone"))])
 
+    def test_only_what_is_held_exists(self):
+        m = self.machine((1, ("open", "log")), (1, ("pipe",)), (1, ("pair",)), (1, ("area",)), (1, ("pass", 3, 5)),
+                         (1, ("write", 2, "a")), (1, ("remove", "log")))
+        world = m.world
+        self.assertEqual([len(at) for at in (world.things, world.pipes, world.sides, world.areas, world.files)],
+                         [6, 1, 2, 1, 1])
+        self.setup_calls(m, [(1, ("close", handle)) for handle in (0, 1, 4, 5)])
+        self.assertEqual(sorted(at[0] for at in world.things.values()), ["side", "writes"])
+        self.assertEqual([pipe.text for pipe in world.pipes.values()], [""])
+        self.assertEqual([side.letters for side in world.sides.values()], [[], []])
+        self.assertEqual((world.areas, world.files), ({}, {}))
+        self.setup_calls(m, [(1, ("close", handle)) for handle in (2, 3)])
+        self.assertEqual((world.things, world.pipes, world.sides), ({}, {}, {}))
+
 
 if __name__ == "__main__":
     unittest.main()

@@ -417,7 +417,8 @@ class Caller:
             name = "close"
         values = {
             "new": lambda: pick([1, 2, 3, 4, 5, 6, 7, 8, 9, 10, 11, 199, 200]), "who": anyone, "group": anyone,
-            "code": lambda: self.random.randrange(-2, 9), "kind": lambda: pick(["stop", "go"] * 4 + ["wake"] * 2 + ["end"]),
+            "code": lambda: self.random.randrange(-2, 9),
+            "kind": lambda: pick(["stop", "go"] * 4 + ["wake"] * 2 + ["end"]),
             "cell": lambda: self.random.randrange(5), "value": lambda: self.random.randrange(-9, 99),
             "path": lambda: pick(["log", "a", "b"]), "text": lambda: pick("abcdefgh") * pick([1, 1, 2, 3, 5, 8, 8, 9]),
             "handle": handle, "place": lambda: self.random.randrange(6), "to": lambda: pick([handle(), 3, 12]),
