@@ -68,3 +68,50 @@ def asked(machine, number, call):
         twin.do(1, ("send", "go", number))
     answer = twin.do(number, call)[0]
     return answer[1] if call == ("handles",) else answer
+
+
+ZEROS = (0, 0, 0, 0)
+
+
+def row(number, parent=None, session=1, group=None, adopts=False, word="runs", code=None, call=None, cells=None,
+        handles=()):
+    """A process of an image: one that runs, or has ended if it has a code."""
+    if code is not None:
+        word = "ended"
+    if cells is None:
+        cells = () if word == "ended" else ZEROS
+    return number, parent, session, session if group is None else group, adopts, word, code, call, cells, handles
+
+
+def image(*processes, things=(), pipes=(), pairs=(), areas=(), files=()):
+    return processes, things, pipes, pairs, areas, files
+
+
+def listed(value):
+    """Lists in the place of all tuples."""
+    return [listed(item) for item in value] if isinstance(value, (list, tuple)) else value
+
+
+def places(value, at=()):
+    """Where the parts of a nested value stand, the value itself first."""
+    found = [at]
+    if isinstance(value, (list, tuple)):
+        for turn, item in enumerate(value):
+            found += places(item, (*at, turn))
+    return found
+
+
+def part(value, at):
+    """What stands at a place."""
+    for turn in at:
+        value = value[turn]
+    return value
+
+
+def put(value, at, new):
+    """The value with another one at a place; tuples stay tuples."""
+    if not at:
+        return new
+    items = list(value)
+    items[at[0]] = put(items[at[0]], at[1:], new)
+    return type(value)(items)

@@ -1,12 +1,15 @@
-"""The examples of DOC.md, sections 3 to 6, and of README.md, result for result."""
+"""The examples of DOC.md, sections 3 to 9, and of README.md, result for result."""
 
 import doctest
 import unittest
 from pathlib import Path
 
 from tests.helper import Case
-from treethaw.errors import NotRunning
+from treethaw.bars import bar, helpers
+from treethaw.errors import Barred, NotRunning
+from treethaw.images import freeze
 from treethaw.machine import Machine
+from treethaw.plans import plan, play
 
 
 class Examples(Case):
@@ -63,10 +66,57 @@ class Examples(Case):
             [(('told', None), [(3, ('told', 1))]), (('told', '123'), []), (('told', None), [])])
         self.exact(m.do(1, ("read", 0, 2)), (('told', '45'), [(2, ('told', 6))]))
 
+    def image(self):
+        m = Machine([("log", "abc")])
+        self.exact(
+            [m.do(1, ("fork", 5))[0], m.do(5, ("open", "log"))[0], m.do(5, ("pipe",))[0], m.do(5, ("fork", 6))[0],
+             m.do(6, ("close", 2))[0], m.do(6, ("set", 1, 44))[0], m.do(5, ("copy", 0, 4))[0],
+             m.do(5, ("read", 4, 1))[0], m.do(6, ("read", 1, 3))[0]],
+            [('told', 5), ('told', 0), ('told', (1, 2)), ('told', 6), ('told', None), ('told', None), ('told', 4),
+             ('told', 'a'), ('waits',)])
+        return freeze(m, 5)
+
+    def test_images(self):
+        image = self.image()
+        self.exact(
+            image[0][0],
+            (5, None, 1, 1, False, 'runs', None, None, (0, 0, 0, 0), ((0, 0), (1, 1), (2, 2), (4, 0))))
+        self.exact(
+            image[0][1], (6, 5, 1, 1, False, 'waits', None, ('read', 1, 3), (0, 44, 0, 0), ((0, 0), (1, 1))))
+        self.exact(
+            image[1:],
+            ((('file', 0, 1), ('reads', 0), ('writes', 0)), (('', (6,), ()),), (), (), (('log', 'abc'),)))
+
+    def test_bars(self):
+        image = self.image()
+        self.exact((bar(image), helpers(image)), (None, ([], [], [])))
+        z = (0, 0, 0, 0)
+        two, top = (2, None, 2, 2, False, "runs", None, None, z, ()), (2, None, 2, 2, True, "runs", None, None, z, ())
+        self.exact(
+            bar(((two, (3, 2, 9, 9, False, "runs", None, None, z, ())), (), (), (), (), ())), ('session', 9, 3))
+        three, four = (3, 2, 9, 8, False, "runs", None, None, z, ()), (4, 2, 4, 4, False, "runs", None, None, z, ())
+        self.exact(
+            helpers(((top, three, four, (5, 2, 4, 4, False, "runs", None, None, z, ())), (), (), (), (), ())),
+            ([9], [8], [4]))
+        self.exact(
+            bar(((top, (3, 2, 5, 5, False, "runs", None, None, z, ()), (5, 3, 5, 5, False, "runs", None, None, z, ())),
+                 (), (), (), (), ())),
+            ('ring', [3]))
+
+    def test_plans(self):
+        image = self.image()
+        other = play(Machine([("log", "abc")]), plan(image, Machine([("log", "abc")])))
+        self.exact(
+            (freeze(other, 5) == image, other.numbers(), other.do(5, ("write", 2, "xyz"))),
+            (True, [1, 5, 6], (('told', 3), [(6, ('told', 'xyz'))])))
+        with self.assertRaises(Barred) as caught:
+            plan(image, Machine())
+        self.exact(caught.exception.reason, ('path', 'log'))
+
     def test_readme(self):
         readme = Path(__file__).resolve().parent.parent / "README.md"
         result = doctest.testfile(str(readme), module_relative=False)
-        self.assertEqual((result.failed, result.attempted), (0, 8))
+        self.assertEqual((result.failed, result.attempted), (0, 18))
 
 
 if __name__ == "__main__":

@@ -32,8 +32,8 @@ def functions(tree):
 
 
 def bound(node):
-    """The names that a function binds: parameters, targets, loops."""
-    names = [arg.arg for arg in node.args.args + node.args.kwonlyargs]
+    """The names that a function binds: parameters, its lambdas' too, targets, loops."""
+    names = [at.arg for at in ast.walk(node) if isinstance(at, ast.arg)]
     names += [at.id for at in ast.walk(node) if isinstance(at, ast.Name) and isinstance(at.ctx, ast.Store)]
     return names
 
@@ -91,6 +91,12 @@ class Language(unittest.TestCase):
                     for alias in node.names:
                         self.assertIn(alias.name, own)
 
+    def test_imports_are_used(self):
+        for name, tree in TREES.items():
+            used = {node.id for node in ast.walk(tree) if isinstance(node, ast.Name)}
+            with self.subTest(name):
+                self.assertEqual({alias.name for node in imports(tree) for alias in node.names} - used, set())
+
     def test_no_circles(self):
         above = {name: {node.module.partition(".")[2] for node in imports(tree)} for name, tree in TREES.items()}
         while above:
@@ -147,6 +153,28 @@ class Language(unittest.TestCase):
         self.assertEqual(own & stored, set())
         self.assertEqual(called - own - METHODS, set())
         self.assertEqual(read - called - stored, set())
+
+    def test_sets_stand_where_they_may(self):
+        for name, tree in TREES.items():
+            parents = {child: node for node in ast.walk(tree) for child in ast.iter_child_nodes(node)}
+            for node in ast.walk(tree):
+                is_set = isinstance(node, ast.Call) and getattr(node.func, "id", None) == "set"
+                if is_set or isinstance(node, (ast.Set, ast.SetComp)):
+                    with self.subTest(file=name, line=node.lineno):
+                        self.assertIsInstance(parents[node], ast.Call)
+                        self.assertIn(parents[node].func.id, ("sorted", "len"))
+                        self.assertEqual(parents[node].keywords, [])
+
+    def test_lambdas(self):
+        for name, tree in TREES.items():
+            found = [(node.lineno, tuple(arg.arg for arg in node.args.args)) for node in ast.walk(tree)
+                     if isinstance(node, ast.Lambda)]
+            with self.subTest(name):
+                self.assertEqual(len(found), len(set(found)))
+
+    def test_no_generators(self):
+        for _, node in self.each((ast.GeneratorExp, ast.Yield, ast.YieldFrom)):
+            self.fail(ast.dump(node))
 
     def test_is(self):
         for _, node in self.each(ast.Compare):

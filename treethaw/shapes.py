@@ -71,3 +71,10 @@ def fits(shape, value):
     if is_number(value):
         return number_fits(shape, value)
     return isinstance(value, str) and text_fits(shape, value)
+
+
+def tupled(value):
+    """The same value with tuples in place of lists, at every depth."""
+    if isinstance(value, (list, tuple)):
+        return tuple([tupled(item) for item in value])
+    return value

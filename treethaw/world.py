@@ -6,6 +6,7 @@ no call shows. A thing is one of the tuples ("file", file, place),
 """
 
 from treethaw.limits import CELLS
+from treethaw.walks import walk
 
 FIRST = 1
 
@@ -166,27 +167,30 @@ def exists(world, thing):
     return thing in list(world.things.values())
 
 
+def letters_from(world, serial):
+    """The serials of the things that lie as letters in the row of this thing, if it is a side."""
+    thing = world.things[serial]
+    if thing[0] != "side":
+        return []
+    return [letter for letter in world.sides[thing[1:]].letters if isinstance(letter, int)]
+
+
+def reached(world, serials):
+    """The serials of all things that are met from these on, through letters, in the order of first meeting."""
+    return walk(serials, lambda at: letters_from(world, at))
+
+
 def held_things(world):
     """The serials of all things that are held, as the keys of a dict."""
-    held = {}
-    found = []
-    for process in world.processes.values():
-        found.extend(list(process.handles.values()))
-    while found:
-        at = found.pop()
-        if at not in held:
-            held[at] = True
-            thing = world.things[at]
-            if thing[0] == "side":
-                found.extend([letter for letter in world.sides[thing[1:]].letters if isinstance(letter, int)])
-    return held
+    serials = [at for process in world.processes.values() for at in process.handles.values()]
+    return {at: True for at in reached(world, serials)}
 
 
 def sweep(world):
     """Takes away all that is not held, after something may have been let go."""
     held = held_things(world)
     world.things = {at: thing for at, thing in world.things.items() if at in held}
-    things = list(world.things.values())
+    things = {thing: True for thing in world.things.values()}
     for at, pipe in world.pipes.items():
         if ("reads", at) not in things:
             pipe.text = ""
