@@ -84,8 +84,11 @@ def draw_ends(random, rows):
 
 def family_image(rows):
     """The image of a family that has no things."""
-    return tuple(tuple(tuple(value) if isinstance(value, list) else () if key == "handles" else value
-                       for key, value in ((key, rows[n][key]) for key in KEYS)) for n in sorted(rows)), (), (), (), (), ()
+    processes = []
+    for n in sorted(rows):
+        values = dict(rows[n], cells=tuple(rows[n]["cells"]), handles=())
+        processes.append(tuple(values[key] for key in KEYS))
+    return tuple(processes), (), (), (), (), ()
 
 
 KEYS = "number parent session group adopts word code call cells handles".split()

@@ -184,7 +184,8 @@ class Shown(Reasons):
             ("ring", None), ("ring", "3"), ("ring", [[3]]), ("ring", [(3,)]), ("ring", [True]), ("ring", [None]),
             ("session", "1", 7), ("session", [1], 7), ("session", 1, None), ("group", None), ("group", [1]),
             ("Group", 1), (None, 1), (1, 1), ([], 1), ("session", 1, (7,)), ("session", -1, 7), ("number", 2),
-            ("session", 1, "7"), ("path", "log"))
+            ("session", 1, "7"), ("path", "log"), ("group", 1, 7), ("ring", 1, 7), ("sessions", 1, 7),
+            ("session", 1, 8), ("session", 8, 7))
         self.assertIs(shows_bar(told, thing=("ring", [3])), True)
 
     def test_true_of_one(self):

@@ -135,7 +135,7 @@ class Numbering(Freezing):
             (5, ("write", 6, "in")), (5, ("pass", 2, 4)), (5, ("pass", 2, 5)), (5, ("write", 0, "hi")),
             (5, ("pass", 0, 3)), (5, ("pass", 0, 1)), (5, ("pass", 0, 3)), (5, ("close", 0)), (5, ("close", 2)),
             (5, ("close", 3)), (5, ("close", 4)), (5, ("close", 5)), (5, ("close", 6))])
-        # 1 leads to a side with the letters: a text, the other pair's side (two letters in it), itself, this side again.
+        # The letters of the side: a text, a side of the other pair with two letters in it, itself, the other one again.
         self.frozen(m, 5, image(
             row(5, handles=((1, 0),)),
             things=(("side", 0, 0), ("side", 1, 0), ("area", 0), ("reads", 0)),

@@ -305,8 +305,8 @@ class Order(Asked):
 
 class Rows(Asked):
     def test_calls_that_never_wait(self):
-        for call in [("lead",), ("get", 0), ("handles",), ("read", 0), ("read", 0, 0), ("read",), ("fork", 9), (), ("x",),
-                     ["read", 0, 1], "read", ("read", 0, True), ("close", 0), ("seek", 0, 0), ("end", 0)]:
+        for call in [("lead",), ("get", 0), ("handles",), ("read", 0), ("read", 0, 0), ("read",), ("fork", 9), (),
+                     ("x",), ["read", 0, 1], "read", ("read", 0, True), ("close", 0), ("seek", 0, 0), ("end", 0)]:
             self.wrong_at(READ, (0, 0, 7), call)
             self.wrong_at(stopped(READ), (0, 0, 7), call)
 
@@ -321,7 +321,8 @@ class Rows(Asked):
             self.wrong_at(base, (0, 0, 7), ("take", 0), ("take", 2), ("read", 0, 1), ("pass", 1, 1))
         for base in (PASS, stopped(PASS)):
             self.right_at(base, (0, 0, 7), ("write", 1, "12345678"), ("pass", 1, 1))
-            self.wrong_at(base, (0, 0, 7), ("pass", 1, 2), ("pass", 0, 1), ("pass", 2, 1), ("write", 0, "a"), ("take", 1))
+            self.wrong_at(base, (0, 0, 7), ("pass", 1, 2), ("pass", 0, 1), ("pass", 2, 1), ("write", 0, "a"),
+                          ("take", 1))
 
     def test_other_things(self):
         for thing, parts in [(("area", 0), dict(areas=(ZEROS,))), (("file", 0, 0), dict(files=(("a", "x"),)))]:
@@ -449,8 +450,8 @@ class Many(Asked):
             r = random.Random(seed)
             self.right(Drawn(r, r.randint(1, 12), r.choice([0, 3, 8, 20]), [("log", "abc"), ("b", "")]).image())
 
-    def test_doors(self):
-        """Things that change places, with nothing else changed, are not numbered by first meeting any more."""
+    def test_things_that_change_places(self):
+        """All indices follow, but the things are not numbered by first meeting any more."""
         for seed in range(60):
             r = random.Random(seed)
             told = Drawn(r, r.randint(1, 5), 8, [("log", "abc")]).image()
@@ -459,8 +460,10 @@ class Many(Asked):
                 if swapped != told[1]:
                     moved = {at: at + 1, at + 1: at}
                     processes = tuple(put(p, (9,), tuple((h, moved.get(k, k)) for h, k in p[9])) for p in told[0])
-                    pairs = tuple(tuple((tuple(x if isinstance(x, str) else moved.get(x, x) for x in side[0]), *side[1:])
-                                        for side in pair) for pair in told[3])
+                    pairs = told[3]
+                    for place in [p for p in places(pairs) if len(p) == 4 and p[2] == 0]:
+                        letter = part(pairs, place)
+                        pairs = put(pairs, place, moved.get(letter, letter))
                     self.wrong((processes, swapped, told[2], pairs, *told[4:]))
 
 

@@ -129,7 +129,8 @@ class Things(Both):
 
     def test_files_without_a_path(self):
         self.both(image(row(5, handles=((0, 0), (1, 1), (2, 2))),
-                        things=(("file", 0, 0), ("file", 1, 1), ("file", 0, 4)), files=((None, "same"), (None, "same"))))
+                        things=(("file", 0, 0), ("file", 1, 1), ("file", 0, 4)),
+                        files=((None, "same"), (None, "same"))))
 
     def test_pipes(self):
         for ends, text in [(PIPE, ""), (PIPE, "abc"), (PIPE, "12345678"), (PIPE[:1], "abc"), (PIPE[:1], ""),
@@ -138,7 +139,8 @@ class Things(Both):
             self.both(image(row(5, handles=handles), things=ends, pipes=((text, (), ()),)))
 
     def test_handles_that_cross(self):
-        self.both(image(row(5, handles=((0, 0), (1, 1), (2, 2), (3, 3))), row(6, 5, handles=((0, 3), (1, 2), (2, 1), (3, 0))),
+        self.both(image(row(5, handles=((0, 0), (1, 1), (2, 2), (3, 3))),
+                        row(6, 5, handles=((0, 3), (1, 2), (2, 1), (3, 0))),
                         things=(*PIPE, *PAIR), pipes=(("", (), ()),), pairs=((EMPTY, EMPTY),)))
 
     def test_letters(self):
@@ -343,10 +345,10 @@ class Orders(Case):
         self.assertIs(is_order(thing=[0], plan=(((1, ("lead",)),), ())), True)
 
     def test_spoilt(self):
-        for thing in ([1, 0, 2, 3, 4], [0, 1, 4, 3, 2], [2, 0, 1, 3, 4], [0, 1, 2, 3], [0, 1, 2, 3, 4, 4], [0, 1, 2, 3, 5],
-                      [0, 1, 2, 3, -1], [0, 0, 2, 3, 4], [], (0, 1, 2, 3, 4), [False, True, 2, 3, 4], [0, True, 2, 3, 4],
-                      ["0", 1, 2, 3, 4], [None] * 5, [[0], 1, 2, 3, 4], [(0,), 1, 2, 3, 4], None, 0, "01234", True,
-                      [[0, 1, 2, 3, 4]], ([0, 1, 2, 3, 4],)):
+        for thing in ([1, 0, 2, 3, 4], [0, 1, 4, 3, 2], [2, 0, 1, 3, 4], [0, 1, 2, 3], [0, 1, 2, 3, 4, 4],
+                      [0, 1, 2, 3, 5], [0, 1, 2, 3, -1], [0, 0, 2, 3, 4], [], (0, 1, 2, 3, 4), [False, True, 2, 3, 4],
+                      [0, True, 2, 3, 4], ["0", 1, 2, 3, 4], [None] * 5, [[0], 1, 2, 3, 4], [(0,), 1, 2, 3, 4], None, 0,
+                      "01234", True, [[0, 1, 2, 3, 4]], ([0, 1, 2, 3, 4],)):
             with self.subTest(thing):
                 self.assertIs(is_order(PLAN, thing), False)
         self.assertIs(is_order(((), ()), ()), False)

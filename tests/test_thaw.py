@@ -45,7 +45,8 @@ class Grown(Case):
             number = caller.number(model)
             call = caller.call(model, number)
             if number == 1:
-                call = ("send", caller.random.choice(["stop", "go", "go", "wake"]), caller.random.choice(model.numbers()))
+                kind = caller.random.choice(["stop", "go", "go", "wake"])
+                call = ("send", kind, caller.random.choice(model.numbers()))
             if call[0] in ("end", "send", "sendall") and self.ends_root(model, number, call):
                 continue
             self.assertEqual(made(machine, number, call), self.modelled(model, number, call))
@@ -122,14 +123,19 @@ class Whole(Grown):
 class Among(Grown):
     """Any tree that shares nothing, thawed among other processes, as far as calls stay within it."""
 
-    def within(self, image, number, call):
-        """Whether a call tells nothing of processes that are not in the tree."""
-        own = [row[0] for row in image[0]]
-        if call[0] in ("about", "same", "wait"):
-            return all(n in own or call[0] == "wait" for n in call[1 + (call[0] == "same"):][:1])
-        if call[0] in ("send", "sendall", "join"):
-            return call[2] in own
-        return call[0] not in ("fork", "end", "make", "remove")
+    def within(self, twin, thawed, root, call):
+        """Whether a call can tell nothing of other processes and files than those of the tree."""
+        own = tree(twin, root)
+        if call[0] == "fork":
+            return call[1] not in taken(twin) | taken(thawed)
+        if call[0] == "open":
+            return len({dict(state(machine)[1]).get(call[1]) for machine in (twin, thawed)}) == 1
+        if call[0] in ("about", "wait"):
+            return call[1] in [0, *own]
+        if call[0] in ("send", "sendall", "join", "same"):
+            return call[2] in own and call[1] != "end" and (
+                call[0] != "sendall" or call[2] not in outer_groups(twin, root) | outer_groups(thawed, root))
+        return call[0] not in ("end", "make", "remove")
 
     def one_tree(self, caller, machine, model, root):
         try:
@@ -138,25 +144,18 @@ class Among(Grown):
             return False
         files = state(machine)[1]
         other = crowded(random.Random(root), numbers_of(image), files)
-        image_files = dict(other_files(other))
-        if any(path is not None and image_files.get(path) != text for path, text in image[5]):
+        if not {file for file in image[5] if file[0] is not None} <= set(state(other)[1]):
             return False
         found = plan(image, other)
         thawed = play(other, found, draw_order(caller.random, found, {}))
         self.exact(freeze(thawed, root), image)
-        twin, free = machine.twin(), [n for n in range(30, 199) if n not in other.numbers()]
-        for at in range(25):
+        twin = machine.twin()
+        for _ in range(25):
             number = caller.random.choice(tree(twin, root))
             call = caller.call(model, number)
             if caller.random.random() < 0.1:
-                call = ("fork", caller.random.choice(free))
-            elif not self.within(freeze(twin, root), number, call):
-                continue
-            if call[0] == "fork" and call[1] in taken(twin) | taken(thawed):
-                continue
-            if call[0] in ("send", "sendall") and call[1] == "end":
-                continue
-            if call[0] == "sendall" and call[2] in outer_groups(twin, root) | outer_groups(thawed, root):
+                call = ("fork", caller.random.randrange(30, 199))
+            if not self.within(twin, thawed, root, call):
                 continue
             self.exact(made(thawed, number, call), made(twin, number, call))
             self.exact(freeze(thawed, root), freeze(twin, root))
@@ -176,10 +175,6 @@ class Among(Grown):
 
     def test_families(self):
         self.many(FAMILIES_MOST, 2)
-
-
-def other_files(machine):
-    return state(machine)[1]
 
 
 def taken(machine):

@@ -101,7 +101,7 @@ def shows_ring(kin, row):
 def shows_bar(image, thing):
     """Whether any value is a reason that is true of the image, the first one or not."""
     kin = Kin(image)
-    if not isinstance(thing, tuple) or len(thing) < 2:
+    if not isinstance(thing, tuple):
         return False
     if len(thing) == 2 and thing[0] == "ring":
         return shows_ring(kin, thing[1])
@@ -110,7 +110,7 @@ def shows_bar(image, thing):
     if len(thing) == 2 and thing[0] == "group":
         return thing[1] in groups_of(kin) and bars_group(kin, thing[1])
     if len(thing) == 3 and thing[0] == "session":
-        return thing[1] in sessions_of(kin) and thing[2] in kin.rows and bars_session(kin, thing[1], thing[2])
+        return thing[1] in sessions_of(kin) and bars_session(kin, thing[1], thing[2])
     return False
 
 

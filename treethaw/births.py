@@ -64,7 +64,7 @@ def bear_by_helper(nursery, leader):
 
 
 def keep_groups(nursery, session, head):
-    """The first process of a session forks helpers for its groups, which last until these are joined."""
+    """The head of a session, if this is one, forks helpers for its groups, which last until all have joined."""
     for group in helper_groups_in(nursery.kin, session):
         if nursery.bearers.get(session) != group:
             fork(nursery, head, group)
@@ -111,8 +111,7 @@ def bear(nursery, parent, born):
             begin_session(nursery, number)
         if kin.adopting[number]:
             nursery.draft.step(number, ("adopt",))
-        if kin.sessions[number] == number:
-            keep_groups(nursery, number, number)
+        keep_groups(nursery, number, number)
         bear_below(nursery, number)
 
 
@@ -136,7 +135,6 @@ def bear_all(nursery):
     keep_groups(nursery, FIRST, FIRST)
     bear_below(nursery, FIRST)
     join_groups(nursery)
-    # Later helpers may be children of earlier ones.
+    # Later helpers may be children of earlier ones. Whoever these have borne is adopted by the one that waits.
     for number, parent in reversed(nursery.kept):
-        born = tops(nursery.kin, number) if number in lost_sessions(nursery.kin) else []
-        end_helper(nursery, number, parent, born)
+        end_helper(nursery, number, parent, [])

@@ -6,8 +6,8 @@ neither owns what the other one names do not see each other. So every order that
 each process, and the links, leads to the same machine by the same answers.
 
 The marks are: ("process", number), whether a process is there and runs; ("parent", number), whose child
-it is; ("groups", session), which groups a session has; ("waits", number), whether a process waits for
-children; ("pipe", at) and ("letters", at, side), what is in a row and who waits there; HELD, that the
+it is; ("groups", session), which groups a session has; ("waits", number), whether a process that waits for
+children is stopped; ("pipe", at) and ("letters", at, side), what is in a row and who waits there; HELD, that the
 first process holds everything.
 """
 

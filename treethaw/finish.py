@@ -102,20 +102,18 @@ def finish_children(work, number):
         if at not in late:
             end(work, at, [])
     if waits:
-        mark = ("waits", number)
-        work.draft.step(number, row[7], owns=[mark], uses=[("parent", row[7][1])])
+        work.draft.step(number, row[7], uses=[("parent", row[7][1])])
         if row[5] == "stopped":
-            stop(work, number, [mark])
+            stop(work, number, [("waits", number)])
         for at in late:
-            end(work, at, [mark])
+            end(work, at, [("waits", number)])
 
 
 def finish_families(work):
     """All waits for children are made, and all ends; lower ones first, since an end may bring a child to wait for."""
     kin = work.kin
     for number in sorted(kin.members, key=lambda at: -len(all_above(kin, at))):
-        if not has_ended(kin, number):
-            finish_children(work, number)
+        finish_children(work, number)
 
 
 def finish_all(work):

@@ -16,7 +16,8 @@ def walk(beginnings, behind):
     order = list(found)
     at = 0
     while at < len(order):
-        for value in behind(order[at]):
+        values = behind(order[at])
+        for value in values:
             if value not in found:
                 found[value] = len(order)
                 order.append(value)
