@@ -1,15 +1,22 @@
-"""The examples of DOC.md, sections 3 to 9, and of README.md, result for result."""
+"""The examples of DOC.md, sections 3 to 12, and of README.md, result for result."""
 
 import doctest
 import unittest
 from pathlib import Path
 
 from tests.helper import Case
+from treethaw import bars, desk, images, judge, machine, moving, parting, plans, texts
 from treethaw.bars import bar, helpers
+from treethaw.desk import answers
 from treethaw.errors import Barred, NotRunning
 from treethaw.images import freeze
 from treethaw.machine import Machine
+from treethaw.moving import Giver, Taker, cut
+from treethaw.parting import alike, shows_parting
 from treethaw.plans import plan, play
+
+MODULES = (bars, desk, images, judge, machine, moving, parting, plans, texts)
+DOCUMENT = Path(__file__).resolve().parent.parent.parent / "shared" / "DOC.md"
 
 
 class Examples(Case):
@@ -113,10 +120,58 @@ class Examples(Case):
             plan(image, Machine())
         self.exact(caught.exception.reason, ('path', 'log'))
 
+    def test_partings(self):
+        one, other = Machine(), Machine()
+        self.exact(
+            (one.do(1, ("set", 3, 1))[0], alike(one, other), shows_parting(one, other, [(1, ("get", 3))]),
+             shows_parting(one, other, [])),
+            (('told', None), False, True, False))
+
+    def test_moving(self):
+        giver, taker = Giver(), Taker()
+        self.exact(
+            (giver.freeze(cut("abcde", 3)), giver.messages()),
+            (1, [('piece', 1, 0, 2, 'abc'), ('piece', 1, 1, 2, 'de')]))
+        self.exact(
+            (taker.receive(giver.messages()[1]), taker.messages(), taker.receive(giver.messages()[0]), taker.messages(),
+             taker.running()),
+            (None, [], None, [('whole', 1)], None))
+        self.exact(
+            (giver.receive(("whole", 1)), giver.phase(), taker.receive(("go", 1)), taker.running(), taker.messages()),
+            (None, 'given', None, 'abcde', [('going', 1)]))
+
+    def test_desk(self):
+        self.exact(
+            answers("1 fork 5\n5 lead\n5 fork 6\n6 end 2\nfreeze 5\n1 send end 5\n1 wait 0\n1 wait 6\nthaw\n"
+                    "5 wait 0\nstate"),
+            ['told 5', 'told', 'told 6', 'told', 'frozen 2', 'told', 'told 5 -1', 'told 6 2', 'thawed', 'told 6 2', '2 0'])
+
+    @unittest.skipUnless(DOCUMENT.exists(), "the document is not here")
+    def test_document(self):
+        """Every example of the document itself, one after another, as far as the document is at hand."""
+        names = {name: value for module in MODULES for name, value in vars(module).items()}
+        lines = DOCUMENT.read_text().splitlines()
+        seen = 0
+        for line, wanted in zip(lines, [*lines[1:], ""]):
+            if not line.startswith("    >>> "):
+                continue
+            with self.subTest(line):
+                if wanted.startswith("    raises "):
+                    with self.assertRaises(Exception) as caught:
+                        eval(line[8:], names)
+                    values = ", ".join(f"{name}={value!r}" for name, value in vars(caught.exception).items())
+                    self.assertEqual(f"    raises {type(caught.exception).__name__}({values})", wanted)
+                elif wanted.startswith("    ") and not wanted.startswith("    >>> "):
+                    self.assertEqual("    " + repr(eval(line[8:], names)), wanted)
+                else:
+                    exec(line[8:], names)
+                seen += 1
+        self.assertGreater(seen, 30)
+
     def test_readme(self):
         readme = Path(__file__).resolve().parent.parent / "README.md"
         result = doctest.testfile(str(readme), module_relative=False)
-        self.assertEqual((result.failed, result.attempted), (0, 18))
+        self.assertEqual((result.failed, result.attempted), (0, 32))
 
 
 if __name__ == "__main__":

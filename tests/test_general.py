@@ -1,4 +1,4 @@
-"""[2] the general rules for images, bars and plans, [3] their bounds, [16] the names of the interface."""
+"""[2] the general rules at every door, [3] bounds, [16] the names of the interface."""
 
 import ast
 import copy
@@ -12,20 +12,36 @@ from tests.drawing import Drawn
 from tests.helper import ZEROS, Case, image, listed, row
 from tests.thawing import ThawCase, crowded, numbers_of
 from treethaw.bars import bar, helpers, shows_bar
-from treethaw.errors import Barred, Outside
+from treethaw.desk import answers
+from treethaw.errors import BadLine, BadText, Barred, NotNow, Outside
 from treethaw.images import freeze, is_image, state
 from treethaw.judge import shows_plan
 from treethaw.machine import Machine
+from treethaw.moving import Giver, Taker, cut
+from treethaw.parting import alike, parting, shows_parting
 from treethaw.plans import helpers_of, is_order, plan, play
+from treethaw.texts import image_in, image_text
 
 FOLDER = Path(__file__).resolve().parent.parent / "treethaw"
 INTERFACE = {
-    "machine": {"Machine": None, "is_call": "(thing)"},
+    "machine": {"Machine": "(files=())", "is_call": "(thing)"},
     "images": {"freeze": "(machine, root)", "state": "(machine)", "is_image": "(thing)"},
     "bars": {"bar": "(image)", "shows_bar": "(image, thing)", "helpers": "(image)"},
     "plans": {"plan": "(image, machine)", "is_order": "(plan, thing)", "play": "(machine, plan, order=None)",
               "helpers_of": "(image, plan)"},
     "judge": {"shows_plan": "(image, machine, thing, order=None)"},
+    "parting": {"alike": "(one, other)", "parting": "(one, other)", "shows_parting": "(one, other, thing)"},
+    "moving": {"Giver": "()", "Taker": "()", "cut": "(text, size)"},
+    "texts": {"image_text": "(image)", "image_in": "(text)"},
+    "desk": {"answers": "(text)"},
+    "errors": {"BadText": "()", "BadLine": "(number)", "NoOrder": "()", "Outside": "(what)", "NoProcess": "(number)",
+               "BadStep": "(index)", "NotRunning": "(number)", "Barred": "(reason)", "NotNow": "(word)"},
+}
+METHODS = {
+    ("machine", "Machine"): {"do": "(self, number, call)", "numbers": "(self)", "twin": "(self)"},
+    ("moving", "Giver"): {"phase": "(self)", "freeze": "(self, pieces)", "resume": "(self)",
+                          "receive": "(self, message)", "messages": "(self)"},
+    ("moving", "Taker"): {"receive": "(self, message)", "messages": "(self)", "running": "(self)"},
 }
 RING = image(row(2, session=2, adopts=True), row(3, 2, 5), row(5, 3, 5))
 
@@ -49,8 +65,14 @@ class Names(unittest.TestCase):
             module = importlib.import_module(f"treethaw.{name}")
             for function, arguments in wanted.items():
                 with self.subTest(file=name, function=function):
-                    if arguments is not None:
-                        self.assertEqual(str(inspect.signature(getattr(module, function))), arguments)
+                    self.assertEqual(str(inspect.signature(getattr(module, function))), arguments)
+
+    def test_methods(self):
+        for (name, kind), wanted in METHODS.items():
+            own = vars(getattr(importlib.import_module(f"treethaw.{name}"), kind))
+            for method, arguments in wanted.items():
+                with self.subTest(kind=kind, method=method):
+                    self.assertEqual(str(inspect.signature(own[method])), arguments)
 
 
 class Arguments(ThawCase):
@@ -144,6 +166,86 @@ class Arguments(ThawCase):
         with self.assertRaises(Barred) as caught:
             plan(RING, Machine())
         self.exact(caught.exception.reason, ("ring", [3]))
+
+
+class LastDoors(ThawCase):
+    """Machines, partings, messages, texts and sheets."""
+
+    def setUp(self):
+        r = random.Random(12)
+        self.images = [Drawn(r, r.randint(1, 5), r.choice([0, 4, 8]), [("log", "abc")]).image() for _ in range(20)]
+
+    def test_calls_as_lists(self):
+        one, other = Machine([("log", "abc")]), Machine([["log", "abc"]])
+        for number, call in [(1, ("fork", 5)), (5, ("pipe",)), (5, ("fork", 6)), (6, ("read", 0, 2)), (1, ("about", 6)),
+                             (5, ("write", 1, "abc")), (6, ("read", 0, 1)), (6, ("read", 0, 1)), (1, ("open", "log")),
+                             (1, ("send", "stop", 6)), (1, ("about", 6)), (1, ("handles",))]:
+            again = list(call)
+            self.exact(one.do(number, call), other.do(call=again, number=number))
+            again[:] = ["lead"]
+        self.exact(state(one), state(other))
+        self.exact(freeze(one, 5), freeze(machine=other, root=5))
+
+    def test_returned_lists_are_new(self):
+        m = Machine([("log", "abc")])
+        m.do(1, ("pipe",)), m.do(1, ("fork", 5)), m.do(5, ("read", 0, 1))
+        m.numbers().clear()
+        m.do(1, ("write", 1, "a"))[1].clear()
+        self.exact(m.numbers(), [1, 5])
+        found = helpers(image(row(5, session=9)))
+        found[0].clear()
+        self.exact(helpers(image(row(5, session=9))), ([9], [], []))
+        other = Machine()
+        parting(m, other).clear()
+        self.assertTrue(shows_parting(m, other, parting(m, other)))
+
+    def test_partings_by_name_and_again(self):
+        for told in self.images:
+            bare = Machine([("log", "abc")])
+            other = play(bare, plan(told, bare))
+            steps = parting(bare, other)
+            self.exact(parting(other=other, one=bare), steps)
+            self.exact(parting(bare.twin(), other.twin()), steps)
+            self.exact([alike(other=other, one=bare), alike(one=other, other=other)], [False, True])
+            self.exact(shows_parting(thing=steps, other=other, one=bare), True)
+            for thing in (listed(steps), tuple(steps), [list(step) for step in steps], [(n, list(c)) for n, c in steps]):
+                self.exact(shows_parting(bare, other, thing), False)
+
+    def test_texts_of_lists(self):
+        r = random.Random(4)
+        for told in self.images:
+            text = image_text(told)
+            for same in (listed(told), mixed(r, told)):
+                kept = copy.deepcopy(same)
+                self.exact(image_text(image=same), text)
+                self.assertEqual(same, kept)
+            self.exact(image_in(text=text), told)
+            self.exact(image_in(text), image_in(text))
+
+    def test_messages_as_lists(self):
+        r = random.Random(5)
+        for kind in (tuple, list):
+            giver, taker = Giver(), Taker()
+            giver.freeze(kind(cut("some text", 4)))
+            for _ in range(3):
+                for message in r.sample(giver.messages(), len(giver.messages())):
+                    taker.receive(message=kind(message))
+                for message in taker.messages():
+                    giver.receive(message=kind(message))
+            self.exact((taker.running(), giver.phase(), giver.messages(), taker.messages()),
+                       ("some text", "given", [], [("going", 1)]))
+
+    def test_after_errors(self):
+        giver = Giver()
+        self.assertRaises(NotNow, giver.resume)
+        self.exact((giver.phase(), giver.freeze(["a"])), ("runs", 1))
+        self.assertRaises(NotNow, giver.freeze, ["b"])
+        self.exact(giver.messages(), [("piece", 1, 0, 1, "a")])
+        self.assertRaises(BadText, image_in, "x")
+        with self.assertRaises(BadLine) as caught:
+            answers(text="state\nx")
+        self.exact(caught.exception.number, 1)
+        self.exact(answers("state"), ["1 0"])
 
 
 class AfterErrors(Case):

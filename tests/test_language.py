@@ -32,9 +32,10 @@ def functions(tree):
 
 
 def bound(node):
-    """The names that a function binds: parameters, its lambdas' too, targets, loops."""
+    """The names that a function binds: parameters, its lambdas' too, targets, loops, caught errors."""
     names = [at.arg for at in ast.walk(node) if isinstance(at, ast.arg)]
     names += [at.id for at in ast.walk(node) if isinstance(at, ast.Name) and isinstance(at.ctx, ast.Store)]
+    names += [at.name for at in ast.walk(node) if isinstance(at, ast.ExceptHandler) and at.name]
     return names
 
 

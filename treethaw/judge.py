@@ -3,7 +3,7 @@
 from treethaw.bars import helpers
 from treethaw.errors import NoProcess, NotRunning, Outside
 from treethaw.images import freeze
-from treethaw.machine import is_call
+from treethaw.machine import is_step
 from treethaw.pictures import paths_of, picture, tree_of
 from treethaw.plans import helpers_of, is_order, order_of
 from treethaw.shapes import is_number, tupled
@@ -13,11 +13,6 @@ from treethaw.world import FIRST
 def is_pair_of_numbers(value):
     """Whether a value is a tuple of two numbers."""
     return isinstance(value, tuple) and len(value) == 2 and is_number(value[0]) and is_number(value[1])
-
-
-def is_step(value):
-    """Whether a value is a step of a plan."""
-    return isinstance(value, tuple) and len(value) == 2 and is_number(value[0]) and is_call(value[1])
 
 
 def is_plan(value):

@@ -3,7 +3,7 @@
 from treethaw.errors import NotRunning
 from treethaw.families import FAMILY_CALLS
 from treethaw.rows import settle
-from treethaw.shapes import ARGUMENTS, fits
+from treethaw.shapes import ARGUMENTS, fits, is_number
 from treethaw.things import THING_CALLS
 from treethaw.world import World, new_file
 
@@ -18,6 +18,11 @@ def is_call(thing):
     if len(thing) != len(shapes) + 1:
         return False
     return all([fits(shape, value) for shape, value in zip(shapes, thing[1:])])
+
+
+def is_step(thing):
+    """Whether any value is a pair of a number and a call."""
+    return isinstance(thing, tuple) and len(thing) == 2 and is_number(thing[0]) and is_call(thing[1])
 
 
 def perform(world, caller, call):
