@@ -208,6 +208,18 @@ class Language(unittest.TestCase):
             if isinstance(node.ctx, ast.Store):
                 self.assertIsInstance(node.value, ast.Name)
 
+    def test_only_own_errors_are_caught(self):
+        own = {node.name for node in TREES["errors"].body if isinstance(node, ast.ClassDef)}
+        for _, node in self.each(ast.ExceptHandler):
+            names = node.type.elts if isinstance(node.type, ast.Tuple) else [node.type]
+            self.assertLessEqual({name.id for name in names}, own)
+
+    def test_stars_in_calls_stand_before_names(self):
+        for _, node in self.each(ast.Call):
+            for argument in node.args:
+                if isinstance(argument, ast.Starred):
+                    self.assertIsInstance(argument.value, ast.Name)
+
     def test_raise_makes_its_error_on_the_spot(self):
         for _, node in self.each(ast.Raise):
             self.assertTrue(node.exc is None or isinstance(node.exc.func, ast.Name))

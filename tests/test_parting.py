@@ -242,6 +242,10 @@ class OneThing(PartingCase):
         begin = [(1, ("fork", 5)), (5, ("open", "log")), (1, ("remove", "log"))]
         self.unlike(begin, [(5, ("write", 0, "x")), (5, ("seek", 0, 0))], [])
         self.unlike(begin, [(5, ("seek", 0, 3)), (5, ("write", 0, "x")), (5, ("seek", 0, 0))], [])
+        self.unlike(begin, [(5, ("write", 0, "x"))], [(5, ("seek", 0, 1))])
+        self.unlike([(1, ("make", "p", "abab")), (1, ("make", "q", "bab"))],
+                    [(1, ("open", "p")), (1, ("seek", 0, 2)), (1, ("remove", "p")), (1, ("remove", "q"))],
+                    [(1, ("open", "q")), (1, ("seek", 0, 1)), (1, ("remove", "p")), (1, ("remove", "q"))])
 
     def test_path_of_a_file(self):
         files = [("p", "x"), ("q", "x")]
@@ -259,6 +263,8 @@ class OneThing(PartingCase):
                    (1, ("remove", "p")), (1, ("remove", "q"))]
         swapped = [(1, ("copy", 2, 9)), (1, ("copy", 3, 2)), (1, ("copy", 9, 3)), (1, ("close", 9))]
         self.unlike(removed, swapped, [], files, files)
+        both = [(1, ("remove", "p")), (1, ("remove", "q"))]
+        self.unlike([(1, ("open", "p"))], [(1, ("open", "p")), *both], [(1, ("open", "q")), *both], files, files)
 
     def test_place_of_an_opening(self):
         for place in (1, 2, 3):

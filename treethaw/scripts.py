@@ -142,8 +142,6 @@ def ask_thing(script, thing, number, handle):
     elif thing[0] == "reads":
         script.ask(number, ("write", handle, "a"))
         script.ask(number, ("read", handle, ROOM))
-        # Nothing is left now, so this one tells whether the writing end is held.
-        script.ask(number, ("read", handle, 1))
     else:
         script.ask(number, ("read", handle, 1))
         script.ask(number, ("write", handle, "a" * (ROOM + 1)))
